@@ -3,9 +3,13 @@
 A refusal is a list of its one number; whatever is refused is refused ahead of any change.
 """
 
+from fundswings.covering import covers, found_swing
+from fundswings.dealing import SIDE_IN, cost_of, flow_of, kept_of, outcomes_at, units_of
+from fundswings.levies import levies_of, weights_of
 from fundswings.points import point_of
 from fundswings.state import Order, Policy
-from fundswings.tiers import tiers_of
+from fundswings.tiers import tiers_of, trading_cost
+from fundswings.weighing import Weighing
 
 NOT_WITHIN = -1
 NOT_THE_FORM = -2
@@ -23,6 +27,9 @@ POLICY_RANGES = ((0, 3), (0, 2000), (0, 2000), (0, 1000000), (0, 1000000), (0, 2
 ORDER_RANGES = ((0, 3), (1, 1000000000000))
 WITHDRAW_RANGES = ((1, 1000000),)
 RESULT_RANGES = ((-1000000000000, 1000000000000),)
+TRY_RANGES = ((0, 2000),)
+COST_RANGES = ((1, 2), (0, 1000000000000))
+OUTCOME_RANGES = ((1, 1000000),)
 
 
 def all_within(numbers, ranges):
@@ -31,6 +38,11 @@ def all_within(numbers, ranges):
         if number < bounds[0] or number > bounds[1]:
             return False
     return True
+
+
+def one_if(truth):
+    """1 if it's true, else 0: an answer holds whole numbers alone."""
+    return 1 if truth else 0
 
 
 def begin(fund, numbers):
@@ -118,8 +130,73 @@ def point(fund, numbers):
     return [dealt.side, dealt.swing, dealt.cost, dealt.lacking, dealt.value, dealt.units]
 
 
+def try_at(fund, numbers):
+    """Tell what all orders at a swing come to."""
+    if not all_within(numbers, TRY_RANGES):
+        return [NOT_WITHIN]
+    swing = numbers[0]
+    side = Weighing(fund).side
+    outcomes = outcomes_at(fund, side, swing)
+    covering = one_if(covers(fund, side, swing))
+    return [cost_of(fund, side, outcomes), covering, flow_of(outcomes), units_of(outcomes), kept_of(fund, outcomes)]
+
+
+def found(fund, numbers):
+    """Tell the found swing, whatever the mode."""
+    weighing = Weighing(fund)
+    swing = found_swing(fund, weighing.side)
+    return [weighing.side, one_if(weighing.enough), swing, one_if(covers(fund, weighing.side, swing))]
+
+
+def cost(fund, numbers):
+    """Tell what trading an amount costs on a side."""
+    if not all_within(numbers, COST_RANGES):
+        return [NOT_WITHIN]
+    tiers = fund.buy_tiers if numbers[0] == SIDE_IN else fund.sell_tiers
+    return [trading_cost(tiers, numbers[1])]
+
+
+def outcome(fund, numbers):
+    """Tell what an order of the last point came to."""
+    if not all_within(numbers, OUTCOME_RANGES):
+        return [NOT_WITHIN]
+    for each in fund.outcomes:
+        if each.number == numbers[0]:
+            return [each.levy, each.money, each.units]
+    return [NOT_THERE]
+
+
+def orders(fund, numbers):
+    """Tell the orders that wait."""
+    told = [len(fund.orders)]
+    for each in fund.orders:
+        told.extend([each.number, each.kind, each.amount])
+    return told
+
+
+def fund_now(fund, numbers):
+    """Tell the value and the units."""
+    return [fund.value, fund.units]
+
+
+def flow(fund, numbers):
+    """Tell the side that weighs more, and what all orders done plain come to."""
+    weighing = Weighing(fund)
+    return [weighing.side, weighing.flow, units_of(weighing.plain)]
+
+
+def weights(fund, numbers):
+    """Tell the weight of each order, and the levy that it would have at a point now."""
+    weighing = Weighing(fund)
+    told = [len(fund.orders)]
+    for weight, levy in zip(weights_of(fund, weighing), levies_of(fund, weighing)):
+        told.extend([weight, levy])
+    return told
+
+
 # By the number of the call.
-CALLS = (begin, buys, sells, policy, order, withdraw, result, point)
+CALLS = (begin, buys, sells, policy, order, withdraw, result, point, try_at, found, cost, outcome, orders, fund_now,
+         flow, weights)
 
 
 def answer_of(fund, call, numbers):

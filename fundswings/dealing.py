@@ -49,11 +49,6 @@ def outcomes_at(fund, side, swing):
     return [done(order, prices, 0) for order in fund.orders]
 
 
-def plain_outcomes(fund):
-    """The outcomes of all orders done plain."""
-    return outcomes_at(fund, NEITHER, 0)
-
-
 def levied_outcomes(fund, levies):
     """The outcomes of all orders at the plain price, each with its levy."""
     prices = Prices(fund, 0, 0)
@@ -68,20 +63,6 @@ def flow_of(outcomes):
 def units_of(outcomes):
     """The units of the outcomes, added up."""
     return sum([outcome.units for outcome in outcomes])
-
-
-def side_of(plain_flow):
-    """The side that weighs more, by the flow of all orders done plain."""
-    if plain_flow > 0:
-        return SIDE_IN
-    if plain_flow < 0:
-        return SIDE_OUT
-    return NEITHER
-
-
-def weighs_enough(fund, plain_flow):
-    """Whether the side that weighs more is over the threshold."""
-    return abs(plain_flow) * MILLION > fund.policy.threshold * fund.value
 
 
 def cost_of(fund, side, outcomes):

@@ -8,7 +8,7 @@ FIRST_UNITS = 1000000
 
 # The calls that have a row have no other numbers.
 CALLS_WITH_ROW = (1, 2)
-NUMBERS_OF_CALL = {0: 2, 3: 6, 4: 2, 5: 1, 6: 1, 7: 0}
+NUMBERS_OF_CALL = {0: 2, 3: 6, 4: 2, 5: 1, 6: 1, 7: 0, 8: 1, 9: 0, 10: 2, 11: 1, 12: 0, 13: 0, 14: 0, 15: 0}
 
 
 def answers(calls):

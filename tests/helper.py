@@ -38,6 +38,38 @@ def point():
     return [7]
 
 
+def try_at(swing):
+    return [8, swing]
+
+
+def found():
+    return [9]
+
+
+def cost(side, amount):
+    return [10, side, amount]
+
+
+def outcome(number):
+    return [11, number]
+
+
+def orders():
+    return [12]
+
+
+def fund():
+    return [13]
+
+
+def flow():
+    return [14]
+
+
+def weights():
+    return [15]
+
+
 def ask(*calls):
     """The answers to the calls, one list for each."""
     told = answers([number for call in calls for number in call])
@@ -61,9 +93,15 @@ def last(*calls):
 RICH = (begin(700000, 900000), buys(100, 20000, 30000, 40000), sells(50, 10000, 20000, 70000),
         policy(2, 11, 13, 900000, 5, 1500), order(0, 50000), order(2, 999), order(1, 12345))
 
+# The calls that only tell.
+TELLING = (try_at(0), try_at(3), found(), cost(1, 31000), cost(2, 31000), orders(), fund(), flow(), weights(),
+           outcome(1), outcome(2), outcome(3))
+
 # Calls whose answers differ if any part of a fund does.
-PROBES = (result(0), order(3, 77), point(), order(3, 60000), order(2, 4321), point(),
-          policy(3, 0, 0, 1000000, 0, 0), order(0, 40000), order(1, 30001), withdraw(6), point(), result(0))
+PROBES = TELLING + (
+    result(0), order(3, 77), point(), outcome(1), outcome(4), order(3, 60000), order(2, 4321), point(),
+    policy(3, 0, 0, 1000000, 0, 0), order(0, 40000), order(1, 30001), weights(), withdraw(6), orders(), point(),
+    outcome(7), result(0))
 
 
 def assert_refused(test, before, call, refusal):
@@ -81,3 +119,11 @@ def assert_ranges(test, before, call, ranges):
             numbers = list(call)
             numbers[place] = wrong
             assert_refused(test, before, numbers, -1)
+
+
+def assert_changes_nothing(test, before, call):
+    """What comes behind the call, itself among it, answers as if it hadn't been there."""
+    told = ask(*before, call, call, *PROBES)
+    test.assertEqual(told[len(before)], told[len(before) + 1], call)
+    del told[len(before):len(before) + 2]
+    test.assertEqual(told, ask(*before, *PROBES), call)

@@ -32,6 +32,22 @@ class InterfaceTest(unittest.TestCase):
         self.assertEqual(answers([7]), [1, -6])
         self.assertEqual(answers([6, 0]), [1, 1000000])
 
+    def test_calls_that_tell_have_their_counts_before_them(self):
+        self.assertEqual(answers([8, 0, 9, 10, 1, 5, 11, 1, 12, 13, 14, 15]),
+                         [5, 0, 1, 0, 0, 0, 4, 0, 0, 0, 1, 1, 0, 1, -4, 1, 0, 2, 1000000, 1000000, 3, 0, 0, 0, 1, 0])
+        self.assertEqual(answers([4, 0, 50, 4, 2, 20, 8, 1, 9, 10, 2, 5, 11, 1, 12, 13, 14, 15, 7, 11, 2]),
+                         [1, 1, 1, 2, 5, 0, 1, 30, 29, 1000000, 4, 1, 1, 0, 1, 1, 0, 1, -4, 7, 2, 1, 0, 50, 2, 2, 20,
+                          2, 1000000, 1000000, 3, 1, 30, 30, 5, 2, 50, 0, 0, 0, 6, 1, 0, 0, 0, 1000030, 1000030,
+                          3, 0, -20, -20])
+        self.assertEqual(answers([8, -1, 10, 0, 0, 11, 0, 13]), [1, -1, 1, -1, 1, -1, 2, 1000000, 1000000])
+
+    def test_forty_orders_told_again_and_again(self):
+        forty = [order(0, 10 ** 12 - step) for step in range(40)]
+        calls = flat([0, 10 ** 12, 10 ** 18], policy(3), buys(0, 999999), *forty, *[[12], [15], [9], [8, 2000]] * 89)
+        told = answers(calls)
+        self.assertEqual(len(told), 2 * 43 + 89 * (122 + 82 + 5 + 6))
+        self.assertEqual(told[86:86 + 215] * 89, told[86:])
+
     def test_four_hundred_calls(self):
         told = answers(flat(*[order(0, 1), point()] * 200))
         self.assertEqual(told[-9:], [1, 200, 6, 1, 0, 0, 0, 1000200, 1000200])

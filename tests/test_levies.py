@@ -1,7 +1,7 @@
 import unittest
 
 from fundswings.calls import answer_of
-from fundswings.points import shared_out
+from fundswings.levies import shared_out
 from fundswings.state import Fund
 from tests.helper import begin, buys, last, order, point, policy, sells
 
